@@ -1,0 +1,1 @@
+"""Handflow: programs as nets that hand things on."""
