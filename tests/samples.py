@@ -1,0 +1,63 @@
+"""Programs for the tests, made by a seed: the same ones each time."""
+
+import random
+
+NAMES = ("a", "b", "c", "q", "r", "x")
+STORES = ("q", "r", "s")
+SIGNS = "+-*/<=&|^"
+NUMBERS = (0, 1, 2, 3, 7, 10 ** 15, 10 ** 30 - 1)
+
+
+class Sampler:
+    def __init__(self, seed, most_rounds=3):
+        self.chance = random.Random(seed)
+        self.most_rounds = most_rounds
+        self.rows_left = 40
+
+    def value(self):
+        return self.chance.choice(NAMES + NUMBERS)
+
+    def name(self):
+        return self.chance.choice(NAMES)
+
+    def heads(self):
+        rows = [f"ask {name}" for name in NAMES if self.chance.random() < 0.4]
+        rows += [f"store {store} {self.chance.randint(1, 4)}" for store in STORES]
+        self.chance.shuffle(rows)
+        return rows
+
+    def block(self, depth, hidden):
+        rows = []
+        for _ in range(self.chance.randint(0, 5)):
+            if self.rows_left > 0:
+                self.rows_left -= 1
+                rows += self.deed(depth, hidden)
+        return rows
+
+    def deed(self, depth, hidden):
+        kinds = ["set", "give"]
+        if not hidden:
+            kinds += ["put", "put", "put", "get", "get"]
+        if depth < 4:
+            kinds += ["if", "while", "repeat", "repeat"]
+        return self.rows_of_kind(self.chance.choice(kinds), depth, hidden)
+
+    def rows_of_kind(self, kind, depth, hidden):
+        if kind == "set":
+            return [f"{self.name()} = {self.value()} {self.chance.choice(SIGNS)} {self.value()}"]
+        if kind == "give":
+            return [f"give {self.name()}"]
+        if kind in ("put", "get"):
+            return [f"{kind} {self.chance.choice(STORES)} {self.name()}"]
+        if kind == "repeat":
+            return [f"repeat {self.chance.randint(0, self.most_rounds)}", *self.block(depth + 1, hidden), "end"]
+        rows = [f"{kind} {self.name()}", *self.block(depth + 1, True)]
+        if kind == "if" and self.chance.random() < 0.5:
+            rows += ["else", *self.block(depth + 1, True)]
+        return rows + ["end"]
+
+
+def sample(seed, most_rounds=3):
+    """A text that is read; its gets may find an empty store."""
+    sampler = Sampler(seed, most_rounds)
+    return "\n".join(sampler.heads() + sampler.block(0, False) + sampler.block(0, False))
