@@ -1,6 +1,11 @@
 """Programs for the tests, made by a seed: the same ones each time."""
 
+import copy
 import random
+
+from handflow.deeds import deeds_of
+from handflow.errors import FlowError
+from handflow.reader import read
 
 NAMES = ("a", "b", "c", "q", "r", "x")
 STORES = ("q", "r", "s")
@@ -61,3 +66,31 @@ def sample(seed, most_rounds=3):
     """A text that is read; its gets may find an empty store."""
     sampler = Sampler(seed, most_rounds)
     return "\n".join(sampler.heads() + sampler.block(0, False) + sampler.block(0, False))
+
+
+def fed_samples(count, most_rounds=3):
+    """Pairs of deeds and stores, of so many samples that aren't refused and have a put."""
+    found = []
+    seed = 0
+    while len(found) < count:
+        program = read(sample(seed, most_rounds))
+        seed += 1
+        try:
+            deeds = deeds_of(program)
+        except FlowError:
+            continue
+        if any(deed[0] == "put" for deed in deeds):
+            found.append((deeds, program[1]))
+    return found
+
+
+def check_asked_of_bodies(case, ask):
+    """A list told of a body is the asker's own, and the body stays as it was."""
+    for seed in range(30):
+        body = read(sample(seed))[2]
+        before = copy.deepcopy(body)
+        told = ask(body)
+        case.assertEqual(body, before)
+        told.append("changed")
+        case.assertEqual(ask(body), told[:-1])
+        case.assertEqual(body, before)

@@ -50,6 +50,14 @@ def is_plain(node):
     return isinstance(node, (ast.Constant, ast.Name))
 
 
+def top_names(tree):
+    for node in tree.body:
+        if isinstance(node, (ast.FunctionDef, ast.ClassDef)):
+            yield node.name
+        elif isinstance(node, ast.Assign):
+            yield node.targets[0].id
+
+
 def bound_names(tree):
     for node in ast.walk(tree):
         if isinstance(node, (ast.FunctionDef, ast.ClassDef)):
@@ -102,6 +110,52 @@ class Language(unittest.TestCase):
                     self.assertTrue(all(part.asname is None and part.name != "*" for part in node.names))
             if path.name == "__init__.py":
                 self.assertTrue(all(is_docstring(node) for node in tree.body))
+
+        self.each_file(check)
+
+    def test_names_come_from_the_file_that_defines_them(self):
+        tops = {path.stem: set(top_names(ast.parse(path.read_text()))) for path in FILES}
+
+        def check(path, tree):
+            for node in tree.body:
+                if isinstance(node, ast.ImportFrom):
+                    for part in node.names:
+                        self.assertIn(part.name, tops[node.module.split(".")[1]])
+
+        self.each_file(check)
+
+    def test_no_two_files_draw_from_one_another(self):
+        drawn = {path.stem: [node.module.split(".")[1] for node in ast.parse(path.read_text()).body
+                             if isinstance(node, ast.ImportFrom)] for path in FILES}
+        while drawn:
+            free = [name for name in drawn if not any(other in drawn for other in drawn[name])]
+            self.assertTrue(free, drawn)
+            for name in free:
+                drawn.pop(name)
+
+    def test_sets_are_used_on_the_spot(self):
+        def check(path, tree):
+            above = {child: node for node in ast.walk(tree) for child in ast.iter_child_nodes(node)}
+            for node in ast.walk(tree):
+                if isinstance(node, ast.Call) and ast.unparse(node.func) in ("set", "frozenset"):
+                    user = above[node]
+                    while isinstance(user, ast.BinOp):
+                        user = above[user]
+                    self.assertIsInstance(user, (ast.Call, ast.Compare))
+                    if isinstance(user, ast.Call):
+                        self.assertIn(ast.unparse(user.func), ("sorted", "len"))
+                        self.assertEqual(user.keywords, [])
+
+        self.each_file(check)
+
+    def test_keywords_of_calls(self):
+        known = {"sorted": {"key", "reverse"}, "min": {"key", "default"}, "max": {"key", "default"},
+                 "sum": {"start"}, "enumerate": {"start"}, "zip": {"strict"}}
+
+        def check(path, tree):
+            for node in ast.walk(tree):
+                if isinstance(node, ast.Call) and hasattr(builtins, ast.unparse(node.func)):
+                    self.assertLessEqual({part.arg for part in node.keywords}, known.get(node.func.id, set()))
 
         self.each_file(check)
 
