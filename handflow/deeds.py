@@ -2,7 +2,7 @@
 
 from handflow.cards import OUTLET, cards_of, get_card, put_card, touched
 from handflow.errors import Starved, TooMuch
-from handflow.tree import names_in
+from handflow.tree import read_by_set
 
 MOST_DEEDS = 2000
 
@@ -46,8 +46,7 @@ def written_rounds(rounds, body):
 def written_once(deed):
     kind = deed[0]
     if kind == "set":
-        reads = sorted(set(names_in(deed)) - set([deed[1]]))
-        return ("set", (deed[1],), tuple(reads), None, None)
+        return ("set", (deed[1],), tuple(read_by_set(deed)), None, None)
     if kind == "put":
         return ("put", (put_card(deed[1]),), (deed[2],), deed[1], None)
     if kind == "get":

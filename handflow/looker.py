@@ -49,9 +49,13 @@ class Looking:
 
 
 def looked(deeds, stores):
-    looking = Looking(waits_of(deeds, stores))
-    for deed in range(len(deeds)):
+    return looked_through(waits_of(deeds, stores))
+
+
+def looked_through(waits):
+    looking = Looking(waits)
+    for deed in range(len(waits)):
         looking.look_at(deed)
-    if len(looking.order) == len(deeds):
+    if len(looking.order) == len(waits):
         return ("by", looking.order)
     return ("ring", looking.order, looking.ring())

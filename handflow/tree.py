@@ -40,3 +40,7 @@ def names_in(deed):
         return []
     # The last word elsewhere: ahead of it stands the store of a put or a get, which is no variable.
     return [deed[1]] if kind in LOOKERS else [deed[-1]]
+
+
+def read_by_set(deed):
+    return sorted(set(names_in(deed)) - set([deed[1]]))

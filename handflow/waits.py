@@ -6,7 +6,11 @@ OUT_OF = 4
 
 
 def waits_of(deeds, stores):
-    waits = waits_for_cards(deeds)
+    return waits_behind(waits_for_cards(deeds), deeds, stores)
+
+
+def waits_behind(waits_by_cards, deeds, stores):
+    waits = [list(row) for row in waits_by_cards]
     puts_by_store = numbers_by_store(deeds, INTO)
     gets_by_store = numbers_by_store(deeds, OUT_OF)
     for store, length in stores:
