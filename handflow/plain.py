@@ -1,15 +1,14 @@
 """The plain run of a program, deed by deed."""
 
 from handflow.errors import Starved
+from handflow.queues import Queue
 from handflow.wheel import beginnings, done
 
 
 class Run:
     def __init__(self, numbers, stores, most):
         self.numbers = numbers
-        # All that was ever put and how much of it is gone: taking the head off a long list is slow.
-        self.laid = dict([(store, []) for store in stores])
-        self.gone = dict([(store, 0) for store in stores])
+        self.queues = dict([(store, Queue([])) for store in stores])
         self.outs = []
         self.steps = 0
         self.most = most
@@ -67,7 +66,7 @@ class Run:
         if kind == "set":
             self.numbers[deed[1]] = done(deed[3], self.number_of(deed[2]), self.number_of(deed[4]))
         elif kind == "put":
-            self.laid[deed[1]].append(self.numbers[deed[2]])
+            self.queues[deed[1]].lay(self.numbers[deed[2]])
         elif kind == "get":
             self.numbers[deed[2]] = self.got_from(deed[1])
         else:
@@ -77,14 +76,9 @@ class Run:
         return self.numbers[value] if isinstance(value, str) else value
 
     def got_from(self, store):
-        gone = self.gone[store]
-        if gone == len(self.laid[store]):
+        if self.queues[store].standing() == 0:
             raise Starved(f"nothing stands in the store {store}", self.steps)
-        self.gone[store] = gone + 1
-        return self.laid[store][gone]
-
-    def left_in(self, store):
-        return self.laid[store][self.gone[store]:]
+        return self.queues[store].take()
 
 
 def run(program, numbers, most=5000):
@@ -93,5 +87,5 @@ def run(program, numbers, most=5000):
     ended = running.do_block(program[2])
     # Sorted by name already: so the beginnings told them, and no name came since.
     finals = list(running.numbers.items())
-    left = [(store, running.left_in(store)) for store in stores]
+    left = [(store, running.queues[store].rest()) for store in stores]
     return (ended, running.steps, running.outs, finals, left)

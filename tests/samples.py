@@ -68,20 +68,26 @@ def sample(seed, most_rounds=3):
     return "\n".join(sampler.heads() + sampler.block(0, False) + sampler.block(0, False))
 
 
-def fed_samples(count, most_rounds=3):
-    """Pairs of deeds and stores, of so many samples that aren't refused and have a put."""
+def fed_texts(count, most_rounds=3):
+    """So many samples that aren't refused and have a put."""
     found = []
     seed = 0
     while len(found) < count:
-        program = read(sample(seed, most_rounds))
+        text = sample(seed, most_rounds)
         seed += 1
         try:
-            deeds = deeds_of(program)
+            deeds = deeds_of(read(text))
         except FlowError:
             continue
         if any(deed[0] == "put" for deed in deeds):
-            found.append((deeds, program[1]))
+            found.append(text)
     return found
+
+
+def fed_samples(count, most_rounds=3):
+    """Pairs of deeds and stores, of such samples."""
+    programs = [read(text) for text in fed_texts(count, most_rounds)]
+    return [(deeds_of(program), program[1]) for program in programs]
 
 
 def check_asked_of_bodies(case, ask):

@@ -70,6 +70,12 @@ def bound_names(tree):
             yield node.attr
 
 
+def is_walked(func):
+    if isinstance(func, ast.Name):
+        return func.id in ("zip", "enumerate", "reversed", "range")
+    return isinstance(func, ast.Attribute) and func.attr in ("items", "keys", "values")
+
+
 class Language(unittest.TestCase):
     def each_file(self, check):
         for path in FILES:
@@ -238,6 +244,33 @@ class Language(unittest.TestCase):
                     self.assertFalse(isinstance(node.ctx, ast.Store) and hasattr(builtins, node.id), node.id)
                 if isinstance(node, ast.arg):
                     self.assertFalse(hasattr(builtins, node.arg), node.arg)
+
+        self.each_file(check)
+
+    def test_no_local_is_called_like_a_class_or_an_import(self):
+        def check(path, tree):
+            above = {part.name for node in tree.body if isinstance(node, ast.ImportFrom) for part in node.names}
+            above |= {node.name for node in tree.body if isinstance(node, ast.ClassDef)}
+            for node in ast.walk(tree):
+                if isinstance(node, ast.arg):
+                    self.assertNotIn(node.arg, above)
+                if isinstance(node, ast.Name) and isinstance(node.ctx, ast.Store):
+                    self.assertNotIn(node.id, above)
+
+        self.each_file(check)
+
+    def test_what_is_walked_at_once(self):
+        walkers = ("list", "tuple", "dict", "sorted", "sum", "any", "all", "enumerate", "zip", "min", "max")
+
+        def check(path, tree):
+            above = {child: node for node in ast.walk(tree) for child in ast.iter_child_nodes(node)}
+            for node in ast.walk(tree):
+                if isinstance(node, ast.Call) and is_walked(node.func):
+                    user = above[node]
+                    if isinstance(user, ast.Call):
+                        self.assertIn(ast.unparse(user.func), walkers)
+                    else:
+                        self.assertIsInstance(user, (ast.For, ast.comprehension))
 
         self.each_file(check)
 
